@@ -1,0 +1,1 @@
+"""Orders, lattices, rules and tables, each told with what shows it."""
