@@ -7,8 +7,7 @@ MOST_THINGS = 128
 
 
 def order_of(many, pairs):
-    if many > MOST_THINGS:
-        raise TooMany(f"{many} things are more than {MOST_THINGS}")
+    refuse_more(many, MOST_THINGS)
     lows = lows_told(many, pairs)
     downs = [0 for thing in range(many)]
     placed = 0
@@ -22,6 +21,11 @@ def order_of(many, pairs):
         placed |= bits_of(ready)
         rest = [thing for thing in rest if thing not in ready]
     return downs
+
+
+def refuse_more(many, most):
+    if many > most:
+        raise TooMany(f"{many} things are more than {most}")
 
 
 def refuse_stranger(thing, many):

@@ -1,15 +1,13 @@
 """Points 1, 3, 5 and 7 to 10: orders, and what orderhall.orders tells of them."""
 
-import copy
 import itertools
 import random
 import unittest
 
-from orderhall.errors import NoThing, OrderError, Ring, TooMany
+from helper import (HUGE, STRANGE, HandedInAndTold, OrderCase, all_orders, diamond, is_order_plainly, lies_below,
+                    some_orders, some_pairs)
+from orderhall.errors import NoThing, Ring, TooMany
 from orderhall.orders import covers_of, is_order, order_of, part_of, turned_over
-
-HUGE = 10 ** 60 - 1
-STRANGE = [-1, -2, -128, -HUGE, HUGE, 10 ** 59, 2 ** 64]
 
 
 def reached(many, pairs):
@@ -30,57 +28,7 @@ def order_by_ways(many, pairs):
     return [sum(2 ** low for low in range(many) if low == high or (low, high) in joined) for high in range(many)]
 
 
-def lies_below(downs, low, high):
-    return low != high and downs[high] >> low & 1 == 1
-
-
-def is_order_plainly(downs):
-    """Point 3, word by word."""
-    many = len(downs)
-    things = range(many)
-    if any(not 0 <= down < 2 ** many for down in downs) or any(downs[k] >> k & 1 == 0 for k in things):
-        return False
-    below = {(j, k) for j in things for k in things if lies_below(downs, j, k)}
-    if any((k, j) in below for j, k in below):
-        return False
-    return all((j, m) in below for j, k in below for other, m in below if k == other)
-
-
-def all_orders(many):
-    lists = itertools.product(range(2 ** many), repeat=many)
-    return [list(downs) for downs in lists if is_order_plainly(downs)]
-
-
-def some_pairs(chance, many, count):
-    """Pairs without a ring: each goes up in one shuffled row of the things."""
-    row = list(range(many))
-    chance.shuffle(row)
-    return [tuple(row[place] for place in sorted(chance.sample(range(many), 2))) for number in range(count)]
-
-
-def some_orders():
-    chance = random.Random(7)
-    for many in [2, 3, 5, 8, 13, 20]:
-        for count in [0, 1, many, 2 * many]:
-            yield order_of(many, some_pairs(chance, many, count))
-
-
-def diamond():
-    return [1, 3, 5, 15]
-
-
-class OrderCase(unittest.TestCase):
-    def refused(self, kind, asked, *given):
-        """The refusal: of just this class, and with all that was handed in left as it was."""
-        kept = copy.deepcopy(given)
-        with self.assertRaises(kind) as taken:
-            asked(*given)
-        self.assertIs(type(taken.exception), kind)
-        self.assertIsInstance(taken.exception, OrderError)
-        self.assertIsInstance(taken.exception, ValueError)
-        self.assertEqual(given, kept)
-        return taken.exception
-
+class RingCase(OrderCase):
     def ring_told(self, many, pairs):
         things = self.refused(Ring, order_of, many, pairs).things
         self.assertIs(type(things), list)
@@ -91,7 +39,7 @@ class OrderCase(unittest.TestCase):
         return things
 
 
-class OrderOf(OrderCase):
+class OrderOf(RingCase):
     def test_no_things_and_one(self):
         self.assertEqual(order_of(0, []), [])
         self.assertEqual(order_of(1, []), [1])
@@ -154,7 +102,7 @@ class OrderOf(OrderCase):
             self.assertEqual(order_of(many, pairs), wanted)
 
 
-class OrderOfRefused(OrderCase):
+class OrderOfRefused(RingCase):
     def test_too_many(self):
         for many in [129, 130, 1000, 2 ** 128, HUGE]:
             self.refused(TooMany, order_of, many, [])
@@ -352,9 +300,7 @@ class PartOf(OrderCase):
         self.refused(NoThing, part_of, [2 ** k for k in range(128)], [128])
 
 
-class HandedInAndTold(OrderCase):
-    """Point 1: what is handed in stays, what is told is the asker's own."""
-
+class OrdersAreTheAskersOwn(HandedInAndTold, RingCase):
     def asked(self):
         return [
             (order_of, (4, [(0, 1), (0, 2), (1, 3), (2, 3), (2, 3)])),
@@ -369,37 +315,6 @@ class HandedInAndTold(OrderCase):
             (part_of, ([], [])),
         ]
 
-    def test_what_is_handed_in_stays(self):
-        for function, given in self.asked():
-            kept = copy.deepcopy(given)
-            function(*given)
-            self.assertEqual(given, kept)
-
-    def test_no_list_told_was_handed_in(self):
-        for function, given in self.asked():
-            told = function(*given)
-            for part in given:
-                if isinstance(part, list):
-                    self.assertIsNot(told, part)
-
-    def test_changing_what_was_told_changes_nothing_later(self):
-        for function, given in self.asked():
-            told = function(*given)
-            kept = copy.deepcopy(told)
-            if isinstance(told, list):
-                told.append(99)
-                told[0] = 77
-            self.assertEqual(function(*given), kept)
-
-    def test_changing_what_was_handed_in_changes_nothing_told(self):
-        for function, given in self.asked():
-            told = function(*given)
-            kept = copy.deepcopy(told)
-            for part in given:
-                if isinstance(part, list):
-                    part.clear()
-            self.assertEqual(told, kept)
-
     def test_a_ring_is_the_askers_own(self):
         pairs = [(0, 1), (1, 2), (2, 0)]
         first = self.refused(Ring, order_of, 3, pairs)
@@ -407,7 +322,7 @@ class HandedInAndTold(OrderCase):
         first.things.clear()
         self.assertEqual(self.refused(Ring, order_of, 3, pairs).things, kept)
 
-    def test_the_same_question_has_the_same_answer(self):
+    def test_the_same_rings_tell_the_same_one(self):
         pairs = [(0, 1), (1, 0), (2, 3), (3, 2), (4, 4)]
         told = [self.ring_told(5, pairs) for time in range(5)]
         self.assertEqual(told, [told[0]] * 5)
