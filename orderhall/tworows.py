@@ -14,7 +14,7 @@ def order_by(rows):
     downs = [(1 << len(things)) - 1 for thing in things]
     for row in rows:
         if sorted(row) != things:
-            raise NoWay(f"{row!r} does not hold each number of the first row's length once")
+            raise NoWay(f"{row!r} does not hold each number below the first row's length once")
         downs = [down & ahead for down, ahead in zip(downs, aheads_in(row))]
     return downs
 
