@@ -25,7 +25,7 @@ def order_of(many, pairs):
 
 def refuse_more(many, most):
     if many > most:
-        raise TooMany(f"{many} things are more than {most}")
+        raise TooMany(f"{many} are more than {most}, the most there may be")
 
 
 def refuse_stranger(thing, many):
@@ -109,3 +109,8 @@ def part_of(downs, things):
 
 def numbers_within(things, bits):
     return bits_of([number for number, thing in enumerate(things) if within(1 << thing, bits)])
+
+
+# The order of unlike sets by which one is within which.
+def order_within(sets):
+    return [bits_of([number for number, low in enumerate(sets) if within(low, high)]) for high in sets]

@@ -78,6 +78,96 @@ def diamond():
     return [1, 3, 5, 15]
 
 
+def downsets_plainly(downs):
+    """Point 15, word by word, of all sets."""
+    pairs = [pair for pair in itertools.product(range(len(downs)), repeat=2) if lies_below(downs, *pair)]
+    return [bits for bits in range(2 ** len(downs))
+            if all(bits >> low & 1 for low, high in pairs if bits >> high & 1)]
+
+
+def bounded(downs):
+    """The order between a new bottom, with the number 0, and a new top, with the last number."""
+    return [1] + [1 + 2 * down for down in downs] + [2 ** (len(downs) + 2) - 1]
+
+
+def ladder():
+    return [1, 3, 7, 9, 31]
+
+
+def fan(many):
+    return bounded(all_beside(many))
+
+
+def by_inclusion(sets):
+    return [sum(2 ** k for k, low in enumerate(sets) if low & high == low) for high in sets]
+
+
+def renamed(downs, names):
+    """The same order, in which the thing k bears the number names[k]."""
+    told = [0] * len(downs)
+    for high, down in enumerate(downs):
+        told[names[high]] = sum(2 ** names[low] for low in range(len(downs)) if down >> low & 1)
+    return told
+
+
+def shuffled(chance, downs):
+    return renamed(downs, chance.sample(range(len(downs)), len(downs)))
+
+
+def at_or_below(downs, low, high):
+    return low == high or lies_below(downs, low, high)
+
+
+def shared_above(downs, one, other):
+    return [k for k in range(len(downs)) if at_or_below(downs, one, k) and at_or_below(downs, other, k)]
+
+
+def shared_below(downs, one, other):
+    return [k for k in range(len(downs)) if at_or_below(downs, k, one) and at_or_below(downs, k, other)]
+
+
+def over_plainly(downs, one, other):
+    """Point 27: the least one at or above both, or None."""
+    both = shared_above(downs, one, other)
+    return next((x for x in both if all(at_or_below(downs, x, y) for y in both)), None)
+
+
+def under_plainly(downs, one, other):
+    """Point 27: the greatest one at or below both, or None."""
+    both = shared_below(downs, one, other)
+    return next((x for x in both if all(at_or_below(downs, y, x) for y in both)), None)
+
+
+def is_lattice_plainly(downs):
+    pairs = list(itertools.combinations(range(len(downs)), 2))
+    return len(downs) > 0 and all(over_plainly(downs, *pair) is not None for pair in pairs) and all(
+        under_plainly(downs, *pair) is not None for pair in pairs)
+
+
+def small_lattices(most=7):
+    """All lattices of at most so many things, but for the names of their things: each with its first names as they
+    grew, and with shuffled ones."""
+    chance = random.Random(23)
+    orders = [chain(1)] + [bounded(downs) for many in range(most - 1) for downs in grown_orders(many)]
+    told = []
+    for downs in orders:
+        if is_lattice_plainly(downs):
+            told += [downs, shuffled(chance, downs)]
+    return told
+
+
+def some_lattices(count=40, marks=5, sets=6):
+    """Lattices of sets of marks, closed under what they have in common, under shuffled names."""
+    chance = random.Random(29)
+    told = []
+    for number in range(count):
+        found = {2 ** marks - 1}
+        for bits in chance.sample(range(2 ** marks), sets):
+            found |= {bits & other for other in found}
+        told.append(shuffled(chance, by_inclusion(sorted(found))))
+    return told
+
+
 def lists_in(value):
     """All lists within lists and tuples, the value itself too."""
     found = [value] if isinstance(value, list) else []

@@ -5,18 +5,11 @@ import math
 import random
 import unittest
 
-from helper import (HUGE, STRANGE, HandedInAndTold, OrderCase, all_beside, all_orders, chain, diamond, grown_orders,
-                    lies_below, some_orders)
+from helper import (HUGE, STRANGE, HandedInAndTold, OrderCase, all_beside, all_orders, chain, diamond,
+                    downsets_plainly, grown_orders, lies_below, some_orders)
 from orderhall.errors import NoThing, NoWay, TooMany
 from orderhall.orders import order_of, turned_over
 from orderhall.ways import downsets_of, number_of, steps_between, way_at, ways_ahead, ways_in
-
-
-def downsets_plainly(downs):
-    """Point 15, word by word, of all sets."""
-    pairs = [pair for pair in itertools.product(range(len(downs)), repeat=2) if lies_below(downs, *pair)]
-    return [bits for bits in range(2 ** len(downs))
-            if all(bits >> low & 1 for low, high in pairs if bits >> high & 1)]
 
 
 def is_way_plainly(downs, row):
