@@ -1,7 +1,9 @@
 """What the tests share: orders to ask of, point 3 told word by word, and the looks at refusals and at point 1."""
 
 import copy
+import functools
 import itertools
+import operator
 import random
 import unittest
 
@@ -166,6 +168,70 @@ def some_lattices(count=40, marks=5, sets=6):
             found |= {bits & other for other in found}
         told.append(shuffled(chance, by_inclusion(sorted(found))))
     return told
+
+
+def within_plainly(one, other):
+    return one | other == other
+
+
+def is_closed_plainly(rules, bits):
+    """Point 36, word by word."""
+    return all(within_plainly(give, bits) for need, give in rules if within_plainly(need, bits))
+
+
+def closed_plainly(many, rules):
+    return [bits for bits in range(2 ** many) if is_closed_plainly(rules, bits)]
+
+
+def least_of(sets, bits):
+    """What all the sets that hold bits have in common; None where there are none."""
+    holding = [other for other in sets if within_plainly(bits, other)]
+    return functools.reduce(operator.and_, holding) if holding else None
+
+
+def restless_plainly(many, closed):
+    """Point 40, word by word, of all sets of marks from the least up, each with its closure."""
+    told = {}
+    for bits in sorted(range(2 ** many), key=lambda bits: (bin(bits).count("1"), bits)):
+        inner = [closure for other, closure in told.items() if within_plainly(other, bits)]
+        if bits not in closed and all(within_plainly(closure, bits) for closure in inner):
+            told[bits] = least_of(closed, bits)
+    return sorted(told.items())
+
+
+def some_rules(chance, many, count, needs=2, gives=2):
+    """Rules of a few marks each, some with none in need or in give."""
+    def some_marks(most):
+        return sum(2 ** mark for mark in chance.sample(range(many), min(many, chance.randint(0, most))))
+
+    return [(some_marks(needs), some_marks(gives)) for number in range(count)]
+
+
+def some_rule_lists(many, count=60):
+    chance = random.Random(67)
+    return [some_rules(chance, many, chance.randint(0, 6), needs=3) for number in range(count)]
+
+
+def families(many):
+    """All lists of sets of so many marks that can be the closed sets of rules: with the set of all, and with what any
+    two of them share."""
+    everything = 2 ** many - 1
+    told = []
+    for picked in range(2 ** everything):
+        sets = [bits for bits in range(everything) if picked >> bits & 1] + [everything]
+        if all(one & other in sets for one, other in itertools.combinations(sets, 2)):
+            told.append(sets)
+    return told
+
+
+def full_rules(many, closed):
+    """Rules with just these closed sets: each set of marks with its closure."""
+    return [(bits, least_of(closed, bits)) for bits in range(2 ** many)]
+
+
+def chained_rules(first, last):
+    """From each mark to the next."""
+    return [(2 ** mark, 2 ** (mark + 1)) for mark in range(first, last)]
 
 
 def lists_in(value):

@@ -31,6 +31,13 @@ NEVER = """register mro elements open input version_info with_traceback add_note
 copyright credits delattr dir eval exec exit gc getattr globals hasattr help id importlib license locals methodcaller os
 quit setattr super type vars sys chr print hash next map filter format iter object float bytes""".split()
 
+FIRST_WALKERS = ["list", "tuple", "dict", "sorted", "sum", "any", "all", "enumerate", "zip"]
+WALKED = ["zip", "enumerate", "reversed", "range", ".items", ".keys", ".values"]
+CHANGES = [".append", ".clear", ".extend", ".insert", ".pop", ".remove", ".reverse", ".setdefault", ".update"]
+KEYWORDS = {"sorted": ["key", "reverse"], "min": ["key", "default"], "max": ["key", "default"], "sum": ["start"],
+            "enumerate": ["start"], "zip": ["strict"]}
+PYTHONS_OWN = [name for value in ("", 1, [], (), {}, set(), b"") for name in dir(value) if not name.startswith("_")]
+
 
 def text_breaks(text):
     lines = text.split("\n")
@@ -147,9 +154,133 @@ def expression_breaks(node, methods):
     return []
 
 
+def parents_of(tree):
+    return {part: node for node in ast.walk(tree) for part in ast.iter_child_nodes(node)}
+
+
+def called_name(node):
+    """The plain name that a call calls, or the method's name behind a dot."""
+    if isinstance(node, ast.Call) and isinstance(node.func, ast.Name):
+        return node.func.id
+    if isinstance(node, ast.Call) and isinstance(node.func, ast.Attribute):
+        return "." + node.func.attr
+    return None
+
+
+def walked_on_the_spot(node, above):
+    if isinstance(above, (ast.For, ast.comprehension)):
+        return above.iter is node
+    if called_name(above) in FIRST_WALKERS:
+        return above.args[0] is node
+    return called_name(above) in ("min", "max") and len(above.args) == 1
+
+
+def use_breaks(node, above):
+    """How Python's own names are used: called at once, walked at once, sets not kept."""
+    name = called_name(node)
+    if name in WALKED and not walked_on_the_spot(node, above):
+        return [("L23", node.lineno)]
+    if name == "set" or isinstance(node, ast.Set):
+        if not isinstance(above, (ast.Compare, ast.BinOp)) and called_name(above) not in ("sorted", "len"):
+            return [("L24", node.lineno)]
+    if isinstance(node, ast.Call):
+        return [("L22", node.lineno) for keyword in node.keywords if keyword.arg not in KEYWORDS.get(name, [])]
+    if isinstance(node, ast.Name) and node.id in BUILT_IN and node.id[0].islower():
+        is_called = isinstance(above, ast.Call) and above.func is node
+        is_key = isinstance(above, ast.keyword) and above.arg == "key"
+        if not is_called and not is_key and called_name(above) != "isinstance":
+            return [("L22", node.lineno)]
+    return []
+
+
+def changed_in_its_loop(loop):
+    """Whether a list or dict that a loop walks by its name is changed in it."""
+    walked = [loop.iter] + (loop.iter.args if called_name(loop.iter) in WALKED else [])
+    names = [part.id for part in walked if isinstance(part, ast.Name)]
+    for node in [node for statement in loop.body for node in ast.walk(statement)]:
+        changed = None
+        if isinstance(node, ast.Subscript) and isinstance(node.ctx, ast.Store):
+            changed = node.value
+        elif called_name(node) in CHANGES:
+            changed = node.func.value
+        if isinstance(changed, ast.Name) and changed.id in names:
+            return True
+    return False
+
+
+def class_use_breaks(tree, parents):
+    """Own classes are called, are bases, or stand by isinstance, except, raise, or ahead of their __init__."""
+    own = [node.name for node in tree.body if isinstance(node, ast.ClassDef)]
+    own += [alias.name for node in tree.body if isinstance(node, ast.ImportFrom) for alias in node.names
+            if alias.name[0].isupper() and not alias.name.isupper()]
+    found = []
+    for node in ast.walk(tree):
+        if isinstance(node, ast.Name) and node.id in own:
+            above = parents[node]
+            is_called = isinstance(above, ast.Call) and (above.func is node or called_name(above) == "isinstance")
+            is_base = isinstance(above, ast.Attribute) and above.attr == "__init__"
+            if not is_called and not is_base and not isinstance(above, (ast.ClassDef, ast.ExceptHandler)):
+                found.append(("L18", node.lineno))
+    return found
+
+
+def local_breaks(tree):
+    """Names bound once at the top, and none of its classes and imports bound again within."""
+    top = [node.name for node in tree.body if isinstance(node, (ast.FunctionDef, ast.ClassDef))]
+    top += [alias.name for node in tree.body if isinstance(node, ast.ImportFrom) for alias in node.names]
+    top += [target.id for node in tree.body if isinstance(node, ast.Assign) for target in node.targets]
+    found = [("L15", name) for name in top if top.count(name) > 1]
+    for function in [node for node in ast.walk(tree) if isinstance(node, (ast.FunctionDef, ast.Lambda))]:
+        inner = [node.arg for node in ast.walk(function) if isinstance(node, ast.arg)]
+        inner += [node.id for node in ast.walk(function)
+                  if isinstance(node, ast.Name) and isinstance(node.ctx, ast.Store)]
+        found += [("L15", name) for name in inner if name in top]
+    return found
+
+
+def double_breaks(node):
+    """Of the methods with two underscores, __init__ alone, which gives back nothing."""
+    if not node.name.startswith("__"):
+        return []
+    told = [part for part in ast.walk(node) if isinstance(part, ast.Return)]
+    return [("L28", node.lineno)] if told or node.name != "__init__" else []
+
+
+def value_breaks(tree):
+    """L26: no own method or value is called like one of Python's own, but as the rule allows."""
+    found = []
+    for node in ast.walk(tree):
+        if isinstance(node, ast.ClassDef):
+            names = [part.name for part in node.body if isinstance(part, ast.FunctionDef)]
+            found += [("L26", name) for name in names if name in PYTHONS_OWN and name not in METHODS + ["add", "discard"]]
+        if isinstance(node, ast.Attribute) and isinstance(node.ctx, ast.Store) and node.attr in PYTHONS_OWN:
+            found.append(("L26", node.attr))
+    return found
+
+
+def careful_breaks(tree):
+    parents = parents_of(tree)
+    found = class_use_breaks(tree, parents) + local_breaks(tree) + value_breaks(tree)
+    for node in ast.walk(tree):
+        found += use_breaks(node, parents.get(node))
+        if isinstance(node, ast.For) and changed_in_its_loop(node):
+            found.append(("L23", node.lineno))
+        if isinstance(node, ast.FunctionDef):
+            found += double_breaks(node)
+        if getattr(node, "annotation", None) or getattr(node, "returns", None):
+            found.append(("L21", node.lineno))
+        if isinstance(node, ast.Raise) and not isinstance(node.exc, ast.Call):
+            found.append(("L19", node.lineno))
+        if isinstance(node, ast.ExceptHandler) and isinstance(node.type, ast.Name) and node.type.id in BUILT_IN:
+            found.append(("L19", node.lineno))
+        if isinstance(node, ast.Constant) and isinstance(node.value, str) and "%" in node.value:
+            found.append(("L27", node.lineno))
+    return found
+
+
 def tree_breaks(tree, methods):
     top = tree.body
-    found = name_breaks(tree) + import_breaks(tree)
+    found = name_breaks(tree) + import_breaks(tree) + careful_breaks(tree)
     told = top[0] if ast.get_docstring(tree) is not None else None
     for node in ast.walk(tree):
         if isinstance(node, (ast.FunctionDef, ast.Lambda)):
@@ -243,6 +374,18 @@ class TheLookFindsBreaks(unittest.TestCase):
             ("L14", "# \u00e9\n"), ("L14", "# \t\n"), ("L15", "def f(map):\n    pass\n"), ("L17", "# a type\n"),
             ("L20", "def f(a, b):\n    return a is b\n"), ("L25", "def f(a):\n    return a.bit_count()\n"),
             ("L27", "def f(n):\n    return 2 ** n\n"), ("L7", "def f(a):\n    return f'{a:5}'\n"),
+            ("L15", "A = 1\nA = 2\n"), ("L15", "def f(a):\n    f = a\n"), ("L15", "class C:\n    pass\ndef f(C):\n    pass\n"),
+            ("L18", "class C:\n    pass\ndef f():\n    return [C]\n"), ("L19", "def f(a):\n    raise a\n"),
+            ("L19", "def f(a):\n    try:\n        a()\n    except TypeError:\n        pass\n"),
+            ("L21", "def f(a: int):\n    pass\n"), ("L21", "def f(a) -> int:\n    pass\n"),
+            ("L22", "def f(a):\n    return f(a=a)\n"), ("L22", "def f(a):\n    g = len\n"),
+            ("L23", "def f(a):\n    b = zip(a, a)\n"), ("L23", "def f(a):\n    return range(a)\n"),
+            ("L23", "def f(a):\n    for k in a:\n        a.append(k)\n"),
+            ("L23", "def f(a):\n    for k, v in enumerate(a):\n        a[k] = v\n"),
+            ("L24", "def f(a):\n    b = set(a)\n"), ("L24", "def f(a):\n    return {1, 2, 3}\n"),
+            ("L26", "class C:\n    def title(self):\n        pass\n"), ("L26", "def f(a):\n    a.items = 1\n"),
+            ("L27", "A = 'a %'\n"), ("L28", "class C:\n    def __len__(self):\n        pass\n"),
+            ("L28", "class C:\n    def __init__(self):\n        return None\n"),
         ]
         for rule, text in broken:
             self.assertIn(rule, [found[0] for found in breaks_of(text)], text)
