@@ -100,7 +100,7 @@ class Made(LatticeCase):
                 [under_plainly(downs, *pair) for pair in pairs], [at_or_below(downs, *pair) for pair in pairs]]
 
     def test_against_all_things(self):
-        for downs in small_lattices(6) + some_lattices():
+        for downs in small_lattices() + some_lattices():
             self.assertEqual(all_told(lattice_of(downs)), self.told_plainly(downs))
 
     def test_every_name_of_small_ones(self):
@@ -290,7 +290,7 @@ class OverAndUnderAll(LatticeCase):
 
     def test_against_all_things(self):
         chance = random.Random(47)
-        for downs in small_lattices(6) + some_lattices():
+        for downs in small_lattices() + some_lattices():
             lattice = lattice_of(downs)
             for row in some_rows(chance, len(downs)):
                 self.assertEqual([all_over(lattice, row)], over_all_plainly(downs, row))
